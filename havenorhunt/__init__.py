@@ -1,0 +1,1 @@
+"""Havenorhunt: searchers, runners and sentences on graphs."""

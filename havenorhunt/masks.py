@@ -1,0 +1,57 @@
+"""Sets of nodes as integers: the bit 1 << node is set if the node is in the set.
+
+Only the inside of the package uses masks; what callers pass and get are tuples.
+"""
+
+
+def mask_of(nodes):
+    """Return the mask of some nodes."""
+    mask = 0
+    for node in nodes:
+        mask |= 1 << node
+    return mask
+
+
+def nodes_of(mask):
+    """Return the ascending tuple of the nodes of a mask."""
+    return tuple([node for node in range(mask.bit_length()) if (mask >> node) & 1])
+
+
+def near_masks(graph):
+    """Return the list of the masks of each node's neighbours."""
+    count, edges = graph
+    near = [0] * count
+    for first, second in edges:
+        near[first] |= 1 << second
+        near[second] |= 1 << first
+    return near
+
+
+def full_mask(near):
+    """Return the mask of all nodes."""
+    return (1 << len(near)) - 1
+
+
+def reached(near, start, free):
+    """Return the mask of start and of what is reached from there along edges over nodes of free."""
+    found = start
+    fresh = start
+    while fresh:
+        around = 0
+        for node in nodes_of(fresh):
+            around |= near[node]
+        fresh = around & free & ~found
+        found |= fresh
+    return found
+
+
+def part_masks(near, gone):
+    """Return the list of the masks of the parts without the nodes of gone, by their least nodes."""
+    rest = full_mask(near) & ~gone
+    found = []
+    while rest:
+        least = rest & -rest
+        part = reached(near, least, rest)
+        found.append(part)
+        rest &= ~part
+    return found
