@@ -1,7 +1,7 @@
 """Graphs: their texts, their parts, and the borders of sets of nodes."""
 
 from havenorhunt.errors import BadText
-from havenorhunt.masks import mask_of, near_masks, nodes_of, part_masks
+from havenorhunt.masks import border_mask, mask_of, near_masks, nodes_of, part_masks
 
 _DIGITS = "0123456789"
 _MOST_NODES = 8
@@ -50,6 +50,4 @@ def parts(graph, gone):
 
 def border(graph, nodes):
     """Return the border of a set of nodes."""
-    near = near_masks(graph)
-    inside = mask_of(nodes)
-    return tuple([node for node in nodes if near[node] & ~inside])
+    return nodes_of(border_mask(near_masks(graph), mask_of(nodes)))

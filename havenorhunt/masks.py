@@ -45,6 +45,11 @@ def reached(near, start, free):
     return found
 
 
+def border_mask(near, inside):
+    """Return the mask of the nodes of inside that have a neighbour outside of it."""
+    return mask_of([node for node in nodes_of(inside) if near[node] & ~inside])
+
+
 def part_masks(near, gone):
     """Return the list of the masks of the parts without the nodes of gone, by their least nodes."""
     rest = full_mask(near) & ~gone

@@ -24,6 +24,9 @@ INTERFACE = {
     "errors": ("GroundError", "BadText", "BadSentence", "NoCatch", "NotHere"),
     "graphs": ("read_graph", "write_graph", "parts", "border"),
     "plans": ("possible_after", "caught_at", "gives_ground", "searchers_of", "hunt_holds"),
+    "orders": ("order_need", "best_order"),
+    "rooms": ("rooms_of", "rooms_hold", "hunt_of", "plan_of"),
+    "lines": ("line_need", "best_line", "plan_of_line"),
 }
 
 
