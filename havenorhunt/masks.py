@@ -3,6 +3,8 @@
 Only the inside of the package uses masks; what callers pass and get are tuples.
 """
 
+from itertools import combinations
+
 
 def mask_of(nodes):
     """Return the mask of some nodes."""
@@ -60,3 +62,14 @@ def part_masks(near, gone):
         found.append(part)
         rest &= ~part
     return found
+
+
+def parts_by_standing(near, count):
+    """Return a dict of the parts without each standing of at most so many nodes, all as masks.
+
+    The standings are its keys, in the ascending order of their tuples; it has part_masks of each.
+    """
+    standings = []
+    for size in range(min(count, len(near)) + 1):
+        standings.extend(list(combinations(range(len(near)), size)))
+    return {mask: part_masks(near, mask) for mask in [mask_of(standing) for standing in sorted(standings)]}

@@ -58,15 +58,18 @@ def seen_parts(near, standing, part, then):
     return [other for other in part_masks(near, then) if other & run]
 
 
-def possible_then(near, standing, possible, then, runner):
-    """Return the mask of the possible nodes when the searchers have gone from a standing to then.
+def possible_then(stretches, possible, then, runner):
+    """Return the mask of the possible nodes when the searchers have gone to the standing then.
 
-    The runner, "unseen" or "lazy", was on a possible node. All the others are masks.
+    The runner, "unseen" or "lazy", was on a possible node. Stretches are the parts of the graph
+    without the nodes on which somebody stayed. All these are masks.
     """
-    free = ~(standing & then)
     # The lazy runner runs only from under a searcher that lands; elsewhere it stays where it is.
     runs = possible & then if runner == "lazy" else possible
-    return (possible | reached(near, runs, free)) & ~then
+    for stretch in stretches:
+        if stretch & runs:
+            possible |= stretch
+    return possible & ~then
 
 
 def _possible_masks(graph, plan, runner):
@@ -76,7 +79,7 @@ def _possible_masks(graph, plan, runner):
     possible = full_mask(near)
     found = [possible]
     for then in [mask_of(nodes) for nodes in plan]:
-        possible = possible_then(near, standing, possible, then, runner)
+        possible = possible_then(part_masks(near, standing & then), possible, then, runner)
         found.append(possible)
         standing = then
     return found

@@ -27,6 +27,10 @@ INTERFACE = {
     "orders": ("order_need", "best_order"),
     "rooms": ("rooms_of", "rooms_hold", "hunt_of", "plan_of"),
     "lines": ("line_need", "best_line", "plan_of_line"),
+    "havens": ("haven", "haven_holds"),
+    "blockades": ("blockade", "blockade_holds"),
+    "needs": ("need", "best_plan", "decide", "straighten"),
+    "small": ("ring", "spider", "ring_holds", "spider_holds", "obstacle"),
 }
 
 

@@ -4,7 +4,8 @@ import unittest
 from havenorhunt.graphs import read_graph
 from havenorhunt.lines import best_line, line_need, plan_of_line
 from havenorhunt.plans import caught_at, gives_ground, possible_after, searchers_of
-from tests.plain import every_graph, every_pair, every_small_graph, plain_possible, some_graph
+from tests.best import BestTests
+from tests.plain import every_pair, every_small_graph, plain_possible, some_graph
 from tests.plain_rooms import every_order, plain_line_need, plain_plan_of_line, some_order
 
 PATH4 = (4, ((0, 1), (1, 2), (2, 3)))
@@ -53,51 +54,15 @@ class TestNeed(unittest.TestCase):
             self.assertEqual(line_need(graph, line), plain_line_need(graph, line), (graph, line))
 
 
-class TestBest(unittest.TestCase):
-    def assert_need(self, graph, least):
-        line = best_line(graph)
-        self.assertIs(type(line), tuple)
-        self.assertEqual(sorted(line), list(range(graph[0])), graph)
-        self.assertEqual(plain_line_need(graph, line), least, (graph, line))
+class TestBest(BestTests, unittest.TestCase):
+    best = staticmethod(best_line)
+    need = staticmethod(line_need)
+    plain_need = staticmethod(plain_line_need)
 
-    def test_one_node(self):
-        self.assertEqual(best_line((1, ())), (0,))
-
-    def test_small_graphs(self):
-        for graph in every_small_graph(4):
-            self.assert_need(graph, min(plain_line_need(graph, line) for line in every_order(graph[0])))
-
-    def test_five_nodes(self):
-        lines = every_order(5)
-        for graph in every_graph(5):
-            self.assert_need(graph, min(line_need(graph, line) for line in lines))
-
-    def test_larger_graphs_of_known_need(self):
-        for count in (6, 7, 8):
-            path = tuple((node, node + 1) for node in range(count - 1))
-            pairs = tuple(every_pair(count))
-            self.assert_need((count, ()), 1)
-            self.assert_need((count, path), 2)
-            self.assert_need((count, tuple((0, leaf) for leaf in range(1, count))), 2)
-            self.assert_need((count, tuple(sorted(path + ((0, count - 1),)))), 3)
-            self.assert_need((count, pairs), count)
-            self.assert_need((count, pairs[1:]), count - 1)
-        self.assert_need(SPIDER, 3)
-        self.assert_need(read_graph("8: 0-1 0-4 1-2 1-5 2-3 2-6 3-7 4-5 5-6 6-7"), 3)
-        self.assert_need((8, tuple((one, two) for one in range(4) for two in range(4, 8))), 5)
+    def test_other_graphs_of_known_need(self):
+        # The cube, and a spider, where the line needs more than an order.
         self.assert_need(read_graph("8: 0-1 0-2 0-4 1-3 1-5 2-3 2-6 3-7 4-5 4-6 5-7 6-7"), 5)
-
-    def test_no_drawn_line_needs_less(self):
-        chance = random.Random(18)
-        for _ in range(60):
-            graph = some_graph(chance, chance.randint(6, 8))
-            line = best_line(graph)
-            self.assertEqual(sorted(line), list(range(graph[0])))
-            drawn = [line_need(graph, some_order(chance, graph[0])) for _ in range(200)]
-            self.assertLessEqual(line_need(graph, line), min(drawn), graph)
-
-    def test_beyond_the_limit(self):
-        self.assert_need((11, tuple((node, node + 1) for node in range(10))), 2)
+        self.assert_need(SPIDER, 3)
 
 
 class TestPlan(unittest.TestCase):
