@@ -19,6 +19,11 @@ def nodes_of(mask):
     return tuple([node for node in range(mask.bit_length()) if (mask >> node) & 1])
 
 
+def subsets_of(mask):
+    """Return the ascending list of the masks of all sets of nodes of a mask."""
+    return [within for within in range(mask + 1) if not within & ~mask]
+
+
 def near_masks(graph):
     """Return the list of the masks of each node's neighbours."""
     count, edges = graph

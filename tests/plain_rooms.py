@@ -1,8 +1,8 @@
 """Orders, lines and trees of rooms worked out plainly and slowly, as tests/plain.py does the rest."""
 
-from itertools import permutations
+from itertools import permutations, product
 
-from tests.plain import plain_border, plain_parts, plain_reached, plain_seen
+from tests.plain import every_set, plain_border, plain_parts, plain_reached, plain_seen
 
 
 def every_order(count):
@@ -162,3 +162,29 @@ def in_some_order(chance, rooms):
         waiting = [room for room in waiting if room is not taken]
     places = {id(room): at for at, room in enumerate(done)}
     return tuple((tuple(sorted(room)), -1 if above is None else places[id(above)]) for room, above in done)
+
+
+def every_rooms(graph, most):
+    """All trees of rooms of a graph with at most so many rooms."""
+    for count in range(1, most + 1):
+        for chosen in product(every_set(graph[0]), repeat=count):
+            for aboves in product(*[range(at) for at in range(1, count)]):
+                rooms = tuple(zip(chosen, (-1,) + aboves))
+                if plain_rooms_hold(graph, graph[0], rooms):
+                    yield rooms
+
+
+def several_rooms(chance, graph):
+    """Trees of rooms of a graph of all kinds: made by an order, put together, doubled, with empty rooms, drawn."""
+    everything = (tuple(range(graph[0])), -1)
+    made = plain_rooms_of(graph, some_order(chance, graph[0]))
+    first = made[0][0]
+    yield made
+    yield (everything,)
+    yield (everything,) + tuple((room, 0) for room, _ in made)
+    yield ((first, -1), (first, 0)) + tuple((room, above + 1) for room, above in made[1:])
+    yield (((), -1), ((), 0), (first, 1)) + tuple((room, above + 2) for room, above in made[1:])
+    yield made + (((), len(made) - 1), ((), 0), (made[-1][0], len(made) - 1))
+    yield (everything, everything[:1] + (0,), (everything[0], 0), (everything[0], 1))
+    for changes in (3, 8):
+        yield some_rooms(chance, graph, changes)

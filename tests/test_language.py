@@ -31,6 +31,9 @@ INTERFACE = {
     "blockades": ("blockade", "blockade_holds"),
     "needs": ("need", "best_plan", "decide", "straighten"),
     "small": ("ring", "spider", "ring_holds", "spider_holds", "obstacle"),
+    "sentences": ("read_sentence", "write_sentence", "free_names", "rank"),
+    "meaning": ("holds", "holds_in"),
+    "answers": ("true_along", "count_along", "sets_along", "least_along"),
 }
 
 

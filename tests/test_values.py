@@ -4,18 +4,24 @@ import copy
 import random
 import unittest
 
+from havenorhunt.answers import count_along, least_along, sets_along, true_along
 from havenorhunt.blockades import blockade, blockade_holds
+from havenorhunt.errors import GroundError
 from havenorhunt.graphs import border, parts
 from havenorhunt.havens import haven, haven_holds
 from havenorhunt.lines import best_line, line_need, plan_of_line
+from havenorhunt.meaning import holds, holds_in
 from havenorhunt.needs import best_plan, decide, need, straighten
 from havenorhunt.orders import best_order, order_need
 from havenorhunt.plans import caught_at, gives_ground, hunt_holds, possible_after, searchers_of
 from havenorhunt.rooms import hunt_of, plan_of, rooms_hold, rooms_of
+from havenorhunt.sentences import free_names, rank, read_sentence, write_sentence
 from havenorhunt.small import obstacle, ring, ring_holds, spider, spider_holds
 from tests.plain import some_graph
 from tests.plain_papers import some_tree
 
+CLOSED = read_sentence("each x or empty x some y and single y within y x")
+OPEN = read_sentence("and not joined x x not empty x")
 SPIDER = (7, ((0, 1), (0, 2), (0, 3), (1, 4), (2, 5), (3, 6)))
 
 
@@ -29,6 +35,19 @@ def calls_for(graph):
         (best_line, graph), (line_need, graph, line), (plan_of_line, graph, line), (ring, graph),
         (ring_holds, graph, (0, 1, 2)), (spider_holds, graph, (0, (1, 2))), (haven, graph, 1),
         (haven_holds, graph, 1, haven(graph, 1) or ()), (hunt_holds, graph, 8, hunt_of(graph, rooms)),
+    ]
+    for sentence in (CLOSED, OPEN):
+        sets = tuple((name, (0, 2)) for name in free_names(sentence))
+        calls += [
+            (write_sentence, sentence), (free_names, sentence), (rank, sentence), (holds, graph, sentence, sets),
+            (holds_in, (graph, (2, 0)), sentence, sets),
+        ]
+    if graph[0] < 7:
+        calls.append((true_along, graph, rooms, CLOSED))
+    prices = tuple(range(-3, graph[0] - 3))
+    calls += [
+        (read_sentence, "at 2 x"), (count_along, graph, rooms, OPEN), (sets_along, graph, rooms, OPEN),
+        (least_along, graph, rooms, OPEN, prices),
     ]
     for runner in ("unseen", "lazy"):
         plan = best_plan(graph, runner)
@@ -75,6 +94,18 @@ class TestValues(unittest.TestCase):
                 self.assertEqual(passed, before, function)
                 self.assertEqual(function(*passed), first, function)
 
+    def test_a_call_that_raises_an_error_changes_nothing(self):
+        rooms = rooms_of(SPIDER, best_order(SPIDER))
+        prices = (1,) * 7
+        for function, *passed in (
+            (read_sentence, "some x"), (true_along, SPIDER, rooms, OPEN),
+            (least_along, SPIDER, rooms, read_sentence("some x empty x"), prices),
+        ):
+            before = copy.deepcopy(passed)
+            for _ in range(2):
+                self.assertRaises(GroundError, function, *passed)
+            self.assertEqual(passed, before)
+
     def test_sets_ascend(self):
         for graph in self.graphs():
             rooms = rooms_of(graph, best_order(graph))
@@ -88,6 +119,10 @@ class TestValues(unittest.TestCase):
                     for standing, nodes in pairs:
                         self.assert_set(standing, graph)
                         self.assert_set(nodes, graph)
+            rows = sets_along(graph, rooms, OPEN)
+            self.assert_set(rows, graph)
+            for (nodes,) in rows:
+                self.assert_set(nodes, graph)
 
 
 if __name__ == "__main__":
