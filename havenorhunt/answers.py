@@ -35,8 +35,8 @@ def least_along(graph, rooms, sentence, prices):
     if len(free_names(sentence)) != 1:
         raise BadSentence()
     choices = []
-    for (mask,) in _rows_along(graph, rooms, sentence):
-        choices.append((sum([prices[node] for node in nodes_of(mask)]), mask))
+    for row in _rows_along(graph, rooms, sentence):
+        choices.append((sum([prices[node] for node in nodes_of(row[0])]), row[0]))
     if not choices:
         return None
     # The mask is the sum of 2 ** node, which decides between equal sums.

@@ -4,7 +4,7 @@ from havenorhunt.errors import BadText
 from havenorhunt.masks import border_mask, mask_of, near_masks, nodes_of, part_masks
 
 _DIGITS = "0123456789"
-_MOST_NODES = 8
+MOST_NODES = 8
 
 
 def read_graph(text):
@@ -14,7 +14,7 @@ def read_graph(text):
         raise BadText()
     count = _DIGITS.find(text[0])
     edges = tuple([_read_edge(text[at:at + 4]) for at in range(2, len(text), 4)])
-    if not 1 <= count <= _MOST_NODES or not _edges_fit(count, edges):
+    if not 1 <= count <= MOST_NODES or not _edges_fit(count, edges):
         raise BadText()
     return (count, edges)
 

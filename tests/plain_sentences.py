@@ -82,6 +82,11 @@ def joints_of(sentence):
     return inner + (sentence[0] in JOINTS)
 
 
+def words_around(sentence):
+    """The greatest count of words around one another, the innermost with them."""
+    return 1 + max([words_around(item) for item in sentence if isinstance(item, tuple)], default=0)
+
+
 def tried(piece, sentence, sets):
     """Whether a sentence holds in a piece; `sets` is a dict of frozensets, and all sets are tried."""
     graph, border = piece

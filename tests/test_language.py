@@ -19,21 +19,51 @@ BUILTINS = set(
 # The modules of the library that L2 lets in.
 LIBRARY = ("heapq", "math", "itertools", "collections")
 
-# The files and the names of the document's interface that have landed.
-INTERFACE = {
-    "errors": ("GroundError", "BadText", "BadSentence", "NoCatch", "NotHere"),
-    "graphs": ("read_graph", "write_graph", "parts", "border"),
-    "plans": ("possible_after", "caught_at", "gives_ground", "searchers_of", "hunt_holds"),
-    "orders": ("order_need", "best_order"),
-    "rooms": ("rooms_of", "rooms_hold", "hunt_of", "plan_of"),
-    "lines": ("line_need", "best_line", "plan_of_line"),
-    "havens": ("haven", "haven_holds"),
-    "blockades": ("blockade", "blockade_holds"),
-    "needs": ("need", "best_plan", "decide", "straighten"),
-    "small": ("ring", "spider", "ring_holds", "spider_holds", "obstacle"),
-    "sentences": ("read_sentence", "write_sentence", "free_names", "rank"),
-    "meaning": ("holds", "holds_in"),
-    "answers": ("true_along", "count_along", "sets_along", "least_along"),
+# The document's interface: by files the functions with their arguments, and the classes with their methods.
+FUNCTIONS = {
+    "graphs": {"read_graph": "text", "write_graph": "graph", "parts": "graph gone", "border": "graph nodes"},
+    "plans": {
+        "possible_after": "graph plan runner", "caught_at": "graph plan runner", "gives_ground": "graph plan runner",
+        "searchers_of": "plan", "hunt_holds": "graph count hunt",
+    },
+    "orders": {"order_need": "graph order", "best_order": "graph"},
+    "rooms": {
+        "rooms_of": "graph order", "rooms_hold": "graph count rooms", "hunt_of": "graph rooms", "plan_of": "rooms",
+    },
+    "lines": {"line_need": "graph line", "best_line": "graph", "plan_of_line": "graph line"},
+    "havens": {"haven": "graph count", "haven_holds": "graph count pairs"},
+    "blockades": {"blockade": "graph count runner", "blockade_holds": "graph count runner pairs"},
+    "needs": {
+        "need": "graph runner", "best_plan": "graph runner", "decide": "graph count runner",
+        "straighten": "graph plan runner",
+    },
+    "small": {
+        "ring": "graph", "spider": "graph", "ring_holds": "graph nodes", "spider_holds": "graph found",
+        "obstacle": "graph count runner",
+    },
+    "sentences": {
+        "read_sentence": "text", "write_sentence": "sentence", "free_names": "sentence", "rank": "sentence",
+    },
+    "meaning": {"holds": "graph sentence sets", "holds_in": "piece sentence sets"},
+    "answers": {
+        "true_along": "graph rooms sentence", "count_along": "graph rooms sentence",
+        "sets_along": "graph rooms sentence", "least_along": "graph rooms sentence prices",
+    },
+    "records": {"record": "graph rooms sentence", "record_holds": "graph rooms sentence states answer"},
+    "pieces": {"alike": "first second depth", "answer": "first second picks picked depth", "glue": "first second"},
+    "parting": {"parting": "first second depth"},
+}
+CLASSES = {
+    "errors": {
+        "GroundError": {}, "BadText": {}, "BadSentence": {}, "NoCatch": {}, "NotHere": {"__init__": "self what"},
+    },
+    "ground": {
+        "Ground": {
+            "__init__": "self graph", "graph": "self", "rooms": "self", "add": "self", "join": "self first second",
+            "part": "self first second", "undo": "self", "need": "self runner", "is_true": "self sentence",
+            "count": "self sentence",
+        },
+    },
 }
 
 
@@ -43,7 +73,9 @@ def tree_of(path):
 
 def defined_in(path):
     kinds = (ast.FunctionDef, ast.ClassDef)
-    return [node.name for node in tree_of(path).body if isinstance(node, kinds)]
+    body = tree_of(path).body
+    values = [node.targets[0].id for node in body if isinstance(node, ast.Assign)]
+    return [node.name for node in body if isinstance(node, kinds)] + values
 
 
 class TestLanguage(unittest.TestCase):
@@ -88,11 +120,69 @@ class TestLanguage(unittest.TestCase):
                     self.assertIn(node.id, BUILTINS, path.name)
                     self.assertIsInstance(node.ctx, ast.Load, path.name)
 
+    def assert_functions(self, body, wanted, where):
+        found = {node.name: node for node in body if isinstance(node, ast.FunctionDef)}
+        for name, words in wanted.items():
+            self.assertIn(name, found, where)
+            given = found[name].args
+            self.assertEqual([one.arg for one in given.args], words.split(), (where, name))
+            self.assertEqual((given.posonlyargs, given.vararg, given.kwonlyargs, given.kwarg), ([], None, [], None))
+
     def test_the_interface_stands_where_it_is_listed(self):
-        for name, words in INTERFACE.items():
-            defined = defined_in(PACKAGE / f"{name}.py")
-            for word in words:
-                self.assertIn(word, defined)
+        for name, functions in FUNCTIONS.items():
+            self.assert_functions(tree_of(PACKAGE / f"{name}.py").body, functions, name)
+        for name, classes in CLASSES.items():
+            found = {node.name: node for node in tree_of(PACKAGE / f"{name}.py").body if isinstance(node, ast.ClassDef)}
+            for word, methods in classes.items():
+                self.assertIn(word, found, name)
+                self.assert_functions(found[word].body, methods, word)
+
+    def test_properties(self):
+        """They give back an attribute; nothing else has a decorator."""
+        found = []
+        for path in FILES:
+            for node in ast.walk(tree_of(path)):
+                for decorator in getattr(node, "decorator_list", []):
+                    self.assertEqual(ast.unparse(decorator), "property", path.name)
+                    self.assertRegex(ast.unparse(node.body[-1]), r"^return self\._[a-z]+$")
+                    found.append(node.name)
+        self.assertEqual(sorted(found), ["graph", "rooms"])
+
+    def test_imports_go_one_way(self):
+        imported = {}
+        for path in FILES:
+            nodes = [node for node in tree_of(path).body if isinstance(node, ast.ImportFrom)]
+            imported[path.stem] = {node.module.split(".")[1] for node in nodes if node.module not in LIBRARY}
+        while imported:
+            ready = [name for name, others in imported.items() if not others & set(imported)]
+            self.assertTrue(ready, imported)
+            imported = {name: others for name, others in imported.items() if name not in ready}
+
+    def test_what_the_package_does_without(self):
+        """Much that the language bars, or allows in few places only."""
+        barred = (
+            ast.GeneratorExp, ast.Set, ast.SetComp, ast.Try, ast.With, ast.Global, ast.Nonlocal, ast.Yield,
+            ast.YieldFrom, ast.AsyncFunctionDef, ast.Div, ast.MatMult, ast.Pow, ast.AnnAssign, ast.Match,
+        )
+        for path in FILES:
+            for node in ast.walk(tree_of(path)):
+                self.assertNotIsInstance(node, barred, path.name)
+                if isinstance(node, ast.Constant):
+                    self.assertIn(type(node.value), (int, str, bool, type(None)), path.name)
+                if isinstance(node, ast.Compare) and isinstance(node.ops[0], (ast.Is, ast.IsNot)):
+                    self.assertIsNone(node.comparators[0].value, path.name)
+
+    def test_no_set_is_kept(self):
+        """A class has a method `add`, so that none of a set can be called; sets stand in `sorted` and `len` only."""
+        for path in FILES:
+            for node in ast.walk(tree_of(path)):
+                if isinstance(node, ast.Call) and ast.unparse(node.func) not in ("sorted", "len"):
+                    for inner in node.args:
+                        self.assertFalse(ast.unparse(inner).startswith("set("), path.name)
+                if isinstance(node, (ast.Assign, ast.Return)):
+                    self.assertFalse(ast.unparse(node.value).startswith("set("), path.name)
+                if isinstance(node, ast.Attribute):
+                    self.assertNotIn(node.attr, ("add", "discard"), path.name)
 
 
 if __name__ == "__main__":

@@ -5,7 +5,7 @@ from havenorhunt.errors import BadText, GroundError
 from havenorhunt.sentences import free_names, rank, read_sentence, write_sentence
 from tests.plain_sentences import (
     BINDERS, JOINTS, WORDS, balanced, drawn_sentence, plain_free, plain_rank, plain_read, plain_write, some_sentence,
-    words_of,
+    words_around, words_of,
 )
 
 E = ("empty", "x")
@@ -310,17 +310,12 @@ class TestLongSentence(unittest.TestCase):
         """What the tests above take for a long sentence is one."""
         sentence = long_sentence()
         self.assertEqual(words_of(sentence), 19999)
-        self.assertEqual(depth_of(sentence), 200)
+        self.assertEqual(words_around(sentence), 200)
 
     def test_drawn_sentences_have_all_words(self):
         seen = {word for sentence in drawn(23, 600) for word in plain_write(sentence).split(" ")}
         self.assertLessEqual(set(WORDS), seen)
         self.assertIsInstance(drawn_sentence(random.Random(1), "x", 0, 0, 0), tuple)
-
-
-def depth_of(sentence):
-    """How many words stand around one another, the innermost with them."""
-    return 1 + max([depth_of(item) for item in sentence if isinstance(item, tuple)], default=0)
 
 
 if __name__ == "__main__":

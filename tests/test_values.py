@@ -14,6 +14,9 @@ from havenorhunt.meaning import holds, holds_in
 from havenorhunt.needs import best_plan, decide, need, straighten
 from havenorhunt.orders import best_order, order_need
 from havenorhunt.plans import caught_at, gives_ground, hunt_holds, possible_after, searchers_of
+from havenorhunt.parting import parting
+from havenorhunt.pieces import alike, answer, glue
+from havenorhunt.records import record, record_holds
 from havenorhunt.rooms import hunt_of, plan_of, rooms_hold, rooms_of
 from havenorhunt.sentences import free_names, rank, read_sentence, write_sentence
 from havenorhunt.small import obstacle, ring, ring_holds, spider, spider_holds
@@ -43,7 +46,16 @@ def calls_for(graph):
             (holds_in, (graph, (2, 0)), sentence, sets),
         ]
     if graph[0] < 7:
-        calls.append((true_along, graph, rooms, CLOSED))
+        states = record(graph, rooms, CLOSED)
+        calls += [
+            (true_along, graph, rooms, CLOSED), (record, graph, rooms, CLOSED),
+            (record_holds, graph, rooms, CLOSED, states, True), (record_holds, graph, rooms, CLOSED, states, False),
+        ]
+    piece, other = (graph, (2, 0)), ((3, ((0, 1),)), (0, 1))
+    calls += [
+        (alike, piece, other, 1), (parting, piece, other, 1), (parting, other, piece, 1), (glue, piece, other),
+        (answer, piece, other, (((0,), (1,)),), (0, 2), 0), (answer, piece, piece, (), (0, 2), 1),
+    ]
     prices = tuple(range(-3, graph[0] - 3))
     calls += [
         (read_sentence, "at 2 x"), (count_along, graph, rooms, OPEN), (sets_along, graph, rooms, OPEN),
@@ -99,7 +111,7 @@ class TestValues(unittest.TestCase):
         prices = (1,) * 7
         for function, *passed in (
             (read_sentence, "some x"), (true_along, SPIDER, rooms, OPEN),
-            (least_along, SPIDER, rooms, read_sentence("some x empty x"), prices),
+            (least_along, SPIDER, rooms, read_sentence("some x empty x"), prices), (record, SPIDER, rooms, OPEN),
         ):
             before = copy.deepcopy(passed)
             for _ in range(2):
