@@ -182,7 +182,7 @@ def great_sentence(chance, free, bound, joints):
 
 
 def fitting_sentence(chance, count, free=None):
-    """A sentence that point 24 allows along the rooms of a graph with so many nodes; with free names if told how many."""
+    """A sentence that point 24 allows along the rooms of a graph with so many nodes, and so many free names if told."""
     while True:
         names = chance.randint(0, min(3, 12 // count)) if free is None else free
         most = min(3, 12 // count - names)

@@ -91,7 +91,8 @@ class TestByHand(AlongTests):
         self.assertEqual(sets_along(ONE, (((0,), -1),), read_sentence(one)), wanted)
 
     def test_without_free_names(self):
-        for text, wanted in (("some x joined x x", True), ("each x joined x x", False), ("not some x joined x x", False)):
+        texts = {"some x joined x x": True, "each x joined x x": False, "not some x joined x x": False}
+        for text, wanted in texts.items():
             sentence = read_sentence(text)
             self.assertIs(true_along(PATH4, ROOMS4, sentence), wanted)
             self.assertEqual(count_along(PATH4, ROOMS4, sentence), 1 if wanted else 0)
@@ -111,7 +112,8 @@ class TestByHand(AlongTests):
 
 class TestErrors(AlongTests):
     def test_free_names(self):
-        for text in ("single x", "within x y", "and within x y single z", "and single x some x single x", "some x within x y"):
+        inner = ("and single x some x single x", "some x within x y")
+        for text in ("single x", "within x y", "and within x y single z") + inner:
             with self.assertRaises(BadSentence) as caught:
                 true_along(PATH4, ROOMS4, read_sentence(text))
             self.assertIsInstance(caught.exception, GroundError)

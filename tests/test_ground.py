@@ -141,8 +141,9 @@ class TestChanges(unittest.TestCase):
 
     def test_nodes_that_are_not_there(self):
         ground = Ground(PATH3)
+        pairs = ((0, 3), (3, 0), (3, 3), (-1, 0), (1, -1), (-1, -1), (3, 4), (8, 1), (10 ** 30, 2), (-3, 1))
         for method in (ground.join, ground.part):
-            for first, second in ((0, 3), (3, 0), (3, 3), (-1, 0), (1, -1), (-1, -1), (3, 4), (8, 1), (10 ** 30, 2), (-3, 1)):
+            for first, second in pairs:
                 self.assert_what("node", method, first, second)
         self.assertEqual(ground.graph, PATH3)
         self.assertIs(ground.undo(), False)
@@ -164,7 +165,8 @@ class TestChanges(unittest.TestCase):
         followed = Followed(self, PATH3)
         followed.join(0, 2)
         for method, first, second in (
-            (followed.join, 0, 2), (followed.join, 1, 1), (followed.join, 0, 3), (followed.part, 1, 4), (followed.part, 2, 2),
+            (followed.join, 0, 2), (followed.join, 1, 1), (followed.join, 0, 3),
+            (followed.part, 1, 4), (followed.part, 2, 2),
         ):
             method(first, second)
         self.assertRaises(BadSentence, followed.ground.is_true, ALONE)

@@ -3,7 +3,7 @@ import time
 import unittest
 from itertools import permutations, product
 
-from havenorhunt.meaning import holds, holds_in
+from havenorhunt.meaning import Trials, holds, holds_in
 from havenorhunt.sentences import read_sentence
 from tests.plain import every_set, every_small_graph, some_graph
 from tests.plain_sentences import balanced, great_sentence, plain_free, some_sentence, tried
@@ -95,7 +95,8 @@ class TestHolds(unittest.TestCase):
             self.assert_holds(RING3, "and single x some x empty x", sets, len(x) == 1)
             self.assert_holds(RING3, "and some x empty x single x", sets, len(x) == 1)
             self.assert_holds(RING3, "some y and within y x each x or empty x not empty x", sets, True)
-            self.assert_holds(RING3, "some y and within x y and some x not within x y not empty x", sets, 0 < len(x) < 3)
+            within = "some y and within x y and some x not within x y not empty x"
+            self.assert_holds(RING3, within, sets, 0 < len(x) < 3)
         self.assert_holds(RING3, "some x and single x some x empty x", {}, True)
         self.assert_holds(RING3, "some x and some x empty x single x", {}, True)
         self.assert_holds(RING3, "some x some x and single x empty x", {}, False)
@@ -221,9 +222,9 @@ class TestAsLargeAsAllowed(unittest.TestCase):
     def test_no_long_waiting(self):
         chance = random.Random(24)
         start = time.process_time()
-        for count, bound in ((1, "abcd"), (2, "abcd"), (3, "abcd"), (4, "abc"), (5, "ab"), (6, "ab"), (7, "a"), (8, "a")):
+        for count, most in ((1, 4), (2, 4), (3, 4), (4, 3), (5, 2), (6, 2), (7, 1), (8, 1)):
             for _ in range(5):
-                sentence = great_sentence(chance, "", bound, 4)
+                sentence = great_sentence(chance, "", "abcd"[:most], 4)
                 graph = some_graph(chance, count)
                 self.assertIn(holds(graph, sentence, ()), (True, False))
                 self.assertIn(holds_in((graph, (0,)), sentence, ()), (True, False))
@@ -232,14 +233,58 @@ class TestAsLargeAsAllowed(unittest.TestCase):
     def test_right_at_the_limit(self):
         for count, names in ((3, "abcd"), (4, "abc"), (6, "ab")):
             chain = tuple(zip(names, names[1:]))
-            nested = balanced("and", [("and", ("within", one, two), ("not", ("within", two, one))) for one, two in chain])
+            inner = [("and", ("within", one, two), ("not", ("within", two, one))) for one, two in chain]
+            nested = balanced("and", inner)
             for name in reversed(names):
                 nested = ("some", name, nested)
             self.assertIs(holds((count, ()), nested, ()), True)
-            full = balanced("or", [("not", ("within", one, two)) for one, two in chain] + [("within", names[0], names[-1])])
+            ends = ("within", names[0], names[-1])
+            full = balanced("or", [("not", ("within", one, two)) for one, two in chain] + [ends])
             for name in reversed(names):
                 full = ("each", name, full)
             self.assertIs(holds((count, ()), full, ()), True)
+
+    def test_drawn_sentences_right_at_the_limit(self):
+        chance = random.Random(12)
+        told = []
+        for count, most in ((3, 4), (4, 3), (6, 2)):
+            for _ in range(60):
+                sentence = some_sentence(chance, "x", most, 2)
+                piece = (some_graph(chance, count), ())
+                nodes = chance.choice(every_set(count))
+                wanted = tried(piece, sentence, {"x": frozenset(nodes)})
+                self.assertIs(holds(piece[0], sentence, (("x", nodes),)), wanted, (piece, sentence, nodes))
+                told.append(wanted)
+        self.assertTrue(50 < sum(told) < len(told) - 50)
+
+    def test_drawn_sentences_beyond_the_limit(self):
+        chance = random.Random(13)
+        told = []
+        for count, most in ((3, 5), (4, 4), (6, 3)):
+            for _ in range(20):
+                sentence = some_sentence(chance, "", most, 1)
+                piece = (some_graph(chance, count), ())
+                wanted = tried(piece, sentence, {})
+                self.assertIs(holds(piece[0], sentence, ()), wanted, (piece, sentence))
+                told.append(wanted)
+        self.assertTrue(10 < sum(told) < len(told) - 10)
+
+    def test_names_around_one_another_stand_for_different_sets(self):
+        for count, names in ((3, "abcde"), (4, "abcd"), (6, "abc")):
+            for one, two in permutations(names, 2):
+                some, each = ("not", ("within", one, two)), ("within", one, two)
+                for name in reversed(names):
+                    some, each = ("some", name, some), ("each", name, each)
+                self.assertIs(holds((count, ()), some, ()), True, (count, one, two))
+                self.assertIs(holds((count, ()), each, ()), False, (count, one, two))
+
+    def test_numbers_stay_short(self):
+        """As many trials at once as 2048 bits have room for, whatever the graph and the rank."""
+        for count in range(1, 14):
+            for depth in range(6):
+                trials = Trials(((count, ()), ()), depth)
+                self.assertLessEqual(trials.full.bit_length(), 2048)
+                self.assertEqual(trials.levels, min(depth, 11 // count))
 
     def test_somewhat_beyond(self):
         chance = random.Random(14)

@@ -145,7 +145,8 @@ class TestAlike(unittest.TestCase):
         chance = random.Random(38)
         pairs = 0
         for count in range(4):
-            pieces = [some_piece(chance, 3, 5, count) for _ in range(30)] + [bare(4, tuple(range(count))), bare(5, (3, 4, 2)[:count])]
+            pieces = [some_piece(chance, 3, 5, count) for _ in range(30)]
+            pieces += [bare(4, tuple(range(count))), bare(5, (3, 4, 2)[:count])]
             for first, second in product(pieces, repeat=2):
                 if first < second and alike(first, second, 2):
                     pairs += 1
@@ -243,7 +244,8 @@ class TestAnswer(unittest.TestCase):
         chance = random.Random(41)
         for count in range(4):
             first = some_piece(chance, 8, 8, count)
-            for second in (renumbered_piece(chance, first), some_piece(chance, 8, 8, count), some_piece(chance, 7, 8, count)):
+            others = [some_piece(chance, least, 8, count) for least in (7, 8)]
+            for second in [renumbered_piece(chance, first)] + others:
                 picked = some_set(chance, 8, 8)
                 found = answer(first, second, (), picked, 1)
                 if found is not None:
@@ -289,8 +291,9 @@ class TestGlue(unittest.TestCase):
             nodes = tuple(range(count))
             for graph in every_graph(count):
                 for border in ((0, 1, 2)[:count], (2, 0, 1)[3 - count:] if count == 3 else nodes[::-1]):
-                    self.assertEqual(glue(((count, ()), nodes), (graph, border)), plain_glue(((count, ()), nodes), (graph, border)))
-                    self.assertEqual(glue((graph, border), ((count, ()), nodes)), plain_glue((graph, border), ((count, ()), nodes)))
+                    first, second = bare(count, nodes), (graph, border)
+                    self.assertEqual(glue(first, second), plain_glue(first, second))
+                    self.assertEqual(glue(second, first), plain_glue(second, first))
         self.assertEqual(glue(((3, ((0, 1),)), (0, 1, 2)), ((3, ((0, 1),)), (2, 1, 0))), (3, ((0, 1), (1, 2))))
 
     def test_small_pieces(self):
@@ -324,8 +327,10 @@ class TestGlue(unittest.TestCase):
                     third = some_piece(chance, count, min(3, 1 + count) if depth == 2 else 4, count)
                     if alike(first, second, depth) and told[depth] < 300:
                         told[depth] += 1
-                        for glued in ((glue(first, third), glue(second, third)), (glue(third, first), glue(third, second))):
-                            self.assertIs(alike((glued[0], ()), (glued[1], ()), depth), True, (first, second, third))
+                        one, two = (glue(first, third), ()), (glue(second, third), ())
+                        self.assertIs(alike(one, two, depth), True, (first, second, third))
+                        one, two = (glue(third, first), ()), (glue(third, second), ())
+                        self.assertIs(alike(one, two, depth), True, (first, second, third))
         self.assertTrue(min(told.values()) > 100, told)
 
     def test_a_sentence_about_what_is_glued(self):

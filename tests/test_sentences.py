@@ -208,13 +208,13 @@ class TestReadAndWrite(unittest.TestCase):
     def test_any_other_string(self):
         chance = random.Random(25)
         told = {True: 0, False: 0}
+        some = WORDS + ("x", "y", "0", "1", "q", "xx", "3", "")
         for _ in range(3000):
-            words = [chance.choice(WORDS + ("x", "y", "0", "1", "q", "xx", "3", "")) for _ in range(chance.randint(1, 9))]
-            self.assert_as_told(" ".join(words), told)
+            self.assert_as_told(" ".join(chance.choice(some) for _ in range(chance.randint(1, 9))), told)
         for _ in range(1000):
             self.assert_as_told("".join(chance.choice("x y0notad \n") for _ in range(chance.randint(0, 1000))), told)
-        for text in ("(empty x)", "('empty', 'x')", "empty(x)", "empty x.", "x empty", "x within y", "4: 0-1", "x" * 1000,
-                     " " * 1000, "not " * 250, "empty " * 160 + "x", "x " * 499 + "x", "\ud800", "0" * 1000):
+        for text in ("(empty x)", "('empty', 'x')", "empty(x)", "empty x.", "x empty", "x within y", "4: 0-1",
+                     "x" * 1000, " " * 1000, "0" * 1000, "not " * 250, "empty " * 160 + "x", "x " * 499 + "x", "\ud800"):
             self.assert_bad(text)
         self.assertGreater(told[True], 5)
 
